@@ -1,0 +1,1 @@
+"""A book of meters, tables and values over time, exact to the last digit."""
