@@ -95,6 +95,11 @@ def do_merge(book, numbers):
     return DONE
 
 
+def do_clear(book, numbers):
+    book.renew()
+    return DONE
+
+
 CHANGES = {
     0: do_join,
     1: do_quit,
@@ -106,6 +111,7 @@ CHANGES = {
     7: do_reset,
     8: do_tick,
     9: do_merge,
+    23: do_clear,
 }
 
 

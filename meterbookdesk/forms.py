@@ -13,7 +13,21 @@ FORMS = {
     9: ("table", "table"),
     10: ("meter",),
     11: ("meter",),
+    12: ("meter",),
+    13: ("meter",),
+    14: ("meter",),
+    15: ("table",),
+    16: ("table",),
+    17: ("table", "part", "whole"),
+    18: ("table", "numerator", "denominator"),
+    19: ("value",),
+    20: ("value", "numerator", "denominator"),
+    21: (),
+    22: (),
+    23: (),
 }
+
+QUANTILE = 17
 
 # A width's numerator begins at 1: the denominator is above 0, so the width is above 0 just then.
 RANGES = {
@@ -27,6 +41,8 @@ RANGES = {
     "numerator": (-1000000000000000000, 1000000000000000000),
     "denominator": (1, 1000000000000000000),
     "width numerator": (1, 1000000000000000000),
+    "part": (0, 1000000000),
+    "whole": (1, 1000000000),
 }
 
 
@@ -46,4 +62,5 @@ def are_in_range(place, numbers):
         ends = RANGES[word]
         if number < ends[0] or number > ends[1]:
             return False
-    return True
+    # The greatest part is no fixed number: it is the whole that stands behind it in the same call.
+    return place != QUANTILE or numbers[1] <= numbers[2]

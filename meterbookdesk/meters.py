@@ -1,5 +1,7 @@
 """A meter: who is in, what is loose, and what was noted since the last reset."""
 
+from meterbookdesk.spans import spans_of
+
 
 class Meter:
     """One meter of the book."""
@@ -57,9 +59,12 @@ class Meter:
 
     def spans(self, clock):
         """Pairs of a content and how long it lasted, one for each span up to the clock."""
-        ends = [moment[0] for moment in self.moments[1:]]
-        ends.append(clock)
-        return [(moment[1], end - moment[0]) for moment, end in zip(self.moments, ends)]
+        return spans_of(self.moments, clock)
+
+    def is_live(self):
+        """Whether somebody is in, something is loose, or the content changed since the last reset."""
+        # What is in or loose makes the content more than 0; the first moment is the reset's.
+        return self.content > 0 or len(self.moments) > 1
 
 
 def guests_since(guests, time):

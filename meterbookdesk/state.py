@@ -11,6 +11,10 @@ class Book:
     """A book, new at first."""
 
     def __init__(self):
+        self.renew()
+
+    def renew(self):
+        """Make the book new."""
         self.clock = 0
         self.reset_time = 0
         self.meters = [Meter() for number in range(METER_COUNT)]

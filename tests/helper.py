@@ -5,6 +5,8 @@ from meterbookdesk.book import answers
 PLACES = {
     "join": 0, "quit": 1, "raise": 2, "lower": 3, "define": 4, "tally": 5,
     "set": 6, "reset": 7, "tick": 8, "merge": 9, "meter": 10, "means": 11,
+    "levels": 12, "inside": 13, "busy": 14, "table": 15, "classes": 16, "quantile": 17,
+    "below": 18, "value": 19, "above": 20, "clock": 21, "live": 22, "clear": 23,
 }
 
 BIG = 10 ** 18

@@ -25,7 +25,10 @@ class Untouched(list):
 MIXED = [
     ("join", 1, 3, 10, 5), ("raise", 4, 3, 2), ("define", 0, 2, 1, 2, 1, 3), ("tally", 0, 4, 1, 2),
     ("set", 5, 6, -1, 3), ("quit", 6, 3, 10), ("lower", 7, 3, 1), ("define", 1, 2, 2, 4, 2, 6),
-    ("merge", 1, 0), ("join", 2, 3, 10, 5), ("reset", 8), ("tick", 10), ("meter", 3), ("means", 3),
+    ("merge", 1, 0), ("join", 2, 3, 10, 5), ("join", 7, 3, 11, 4), ("meter", 3), ("means", 3), ("levels", 3),
+    ("inside", 3), ("busy", 3), ("table", 1), ("classes", 1), ("quantile", 1, 1, 2), ("below", 1, 1, 1),
+    ("value", 6), ("above", 6, -1, 2), ("clock",), ("live",), ("reset", 8), ("tick", 10), ("quantile", 1, 1, 2),
+    ("meter", 3), ("inside", 3), ("value", 6), ("clear",), ("clock",), ("table", 1),
 ]
 
 
@@ -43,6 +46,30 @@ class TestReading(unittest.TestCase):
         self.assertEqual(answers([9, 1, 2]), [1, -8])
         self.assertEqual(answers([10, 1]), [10, 0, 0, 0, 0, 0, 0, 0, 0, 0, 0])
         self.assertEqual(answers([11, 1]), [6, 0, 1, 0, 1, 0, 1])
+        self.assertEqual(answers([12, 1]), [1, 0])
+        self.assertEqual(answers([13, 1]), [1, 0])
+        self.assertEqual(answers([14, 1]), [3, 0, 0, 0])
+        self.assertEqual(answers([15, 1]), [1, -8])
+        self.assertEqual(answers([16, 1]), [1, -8])
+        self.assertEqual(answers([17, 1, 2, 3]), [1, -8])
+        self.assertEqual(answers([18, 1, 2, 3]), [1, -8])
+        self.assertEqual(answers([19, 1]), [9, 0, 1, 0, 1, 0, 1, 0, 0, 1])
+        self.assertEqual(answers([20, 1, 2, 3]), [1, 0])
+        self.assertEqual(answers([21]), [2, 0, 0])
+        self.assertEqual(answers([22]), [1, 0])
+        self.assertEqual(answers([23]), [1, 0])
+
+    def test_what_is_told_has_no_0_ahead_and_no_further_counts(self):
+        ahead = [0, 5, 1, 7, 3, 4, 2, 1, 0, 1, 1, 1, 5, 2, 6, 1, 2, 6, 5, 3, 3, 2, 8, 9]
+        done = [1, 0] * 5
+        for asked, told in (
+            ([12, 1], [5, 2, 0, 5, 3, 4]), ([13, 1], [4, 1, 7, 3, 5]), ([14, 1], [3, 1, 4, 4]),
+            ([15, 2], [14, 1, 6, 3, 1, 3, 2, 1, 2, 1, 2, 1, 2, 0, 1]), ([16, 2], [4, 3, 0, 6, 0]),
+            ([17, 2, 1, 1], [2, 1, 2]), ([18, 2, 1, 1], [2, 6, 0]), ([19, 3], [9, 3, 2, 0, 1, 3, 2, 6000, 2, 3]),
+            ([20, 3, 1, 1], [1, 4]), ([21], [2, 9, 0]), ([22], [2, 1, 1]), ([23], [1, 0]),
+        ):
+            with self.subTest(asked=asked):
+                self.assertEqual(answers(ahead + asked + [8, 9]), done + told + [1, 0])
 
     def test_several_calls_one_behind_another(self):
         self.assertEqual(
@@ -53,7 +80,8 @@ class TestReading(unittest.TestCase):
     def test_refused_calls_are_read_to_their_end(self):
         for call in ([0, -1, 10, 10, 10], [1, -1, 10, 10], [2, -1, 10, 10], [3, -1, 10, 10],
                      [4, -1, 10, 10, 10, 10, 10], [5, -1, 10, 10, 10], [6, -1, 10, 10, 10],
-                     [7, -1], [8, -1], [9, -1, 10], [10, -1], [11, -1]):
+                     [7, -1], [8, -1], [9, -1, 10], [10, -1], [11, -1], [12, -1], [13, -1], [14, -1], [15, -1],
+                     [16, -1], [17, -1, 10, 10], [18, -1, 10, 10], [19, -1], [20, -1, 10, 10]):
             with self.subTest(call=call):
                 self.assertEqual(answers(call + [7, 3] + call), [1, -1, 1, 0, 1, -1])
 
@@ -122,7 +150,9 @@ class TestLoops(unittest.TestCase):
     def test_long_lists_need_no_deep_recursion(self):
         calls = [("join", number, 0, number + 1, 1) for number in range(300)]
         calls += [("set", 300, 0, number, 7) for number in range(50)]
-        calls += [("reset", 300), ("meter", 0), ("means", 0)]
+        calls += [("define", 0, 100, 0, 1, 1, 1)] + [("tally", 0, 1, number, 7) for number in range(30)]
+        calls += [("value", 0), ("above", 0, 1, 1), ("levels", 0), ("busy", 0), ("inside", 0), ("table", 0)]
+        calls += [("classes", 0), ("quantile", 0, 1, 1), ("below", 0, 1, 1), ("reset", 300), ("live",), ("clear",)]
         handed = flat(calls)
         depth = 0
         frame = sys._getframe()
@@ -135,7 +165,8 @@ class TestLoops(unittest.TestCase):
             answered = answers(handed)
         finally:
             sys.setrecursionlimit(limit)
-        self.assertEqual(len(answered), 2 * 351 + 11 + 7)
+        told = [9, 1, 1 + 2 * 300, 3, 1 + 3 * 300, 14, 103, 2, 2, 1, 2, 1]
+        self.assertEqual(len(answered), 2 * 381 + sum(told) + len(told))
 
 
 class TestPackage(unittest.TestCase):

@@ -133,7 +133,8 @@ class TestReset(unittest.TestCase):
         self.assertEqual(found[7], [4, 4, 4, 0, 0, 0, 0, 0, 0, 4])
 
     def test_a_refused_reset_notes_on(self):
-        found = run(("join", 1, 0, 1, 2), ("tick", 4), ("reset", 3), ("reset", BIG + 1), ("quit", 6, 0, 1), ("meter", 0))
+        found = run(("join", 1, 0, 1, 2), ("tick", 4), ("reset", 3), ("reset", BIG + 1), ("quit", 6, 0, 1),
+                    ("meter", 0))
         self.assertEqual(found[2:4], [[-3], [-1]])
         self.assertEqual(found[5], [0, 2, 10, 1, 1, 0, 5, 10, 0, 0])
 

@@ -12,6 +12,7 @@ TABLE = (0, 63)
 VALUE = (0, 63)
 NUMERATOR = (-BIG, BIG)
 DENOMINATOR = (1, BIG)
+LENGTHS = {"meter": 10, "means": 6, "busy": 3, "table": 14, "quantile": 2, "below": 2, "value": 9, "above": 1}
 
 # For each call: numbers that are in range, and their ranges.
 CASES = {
@@ -27,6 +28,15 @@ CASES = {
     "merge": ([1, 2], [TABLE, TABLE]),
     "meter": ([1], [METER]),
     "means": ([1], [METER]),
+    "levels": ([1], [METER]),
+    "inside": ([1], [METER]),
+    "busy": ([1], [METER]),
+    "table": ([1], [TABLE]),
+    "classes": ([1], [TABLE]),
+    "quantile": ([1, 2, 3], [TABLE, (0, 3), (2, BILLION)]),
+    "below": ([1, 2, 3], [TABLE, NUMERATOR, DENOMINATOR]),
+    "value": ([1], [VALUE]),
+    "above": ([1, 2, 3], [VALUE, NUMERATOR, DENOMINATOR]),
 }
 
 
@@ -36,6 +46,8 @@ def ready_for(name, numbers):
         return [("join", 0, numbers[1], numbers[2], 1)]
     if name == "lower":
         return [("raise", 0, numbers[1], numbers[2])]
+    if name in ("table", "classes", "quantile", "below"):
+        return [("define", numbers[0], 1, 0, 1, 1, 1), ("tally", numbers[0], 1, 1, 1)]
     if name == "tally":
         return [("define", numbers[0], 1, 0, 1, 1, 1)]
     if name == "merge":
@@ -56,8 +68,10 @@ class TestRanges(unittest.TestCase):
                 asked[at] = end
                 with self.subTest(name=name, asked=asked):
                     answer = last(*ready_for(name, asked), (name, *asked))
-                    if name in ("meter", "means"):
-                        self.assertEqual(len(answer), {"meter": 10, "means": 6}[name])
+                    if name in LENGTHS:
+                        self.assertEqual(len(answer), LENGTHS[name])
+                    elif name == "classes":
+                        self.assertEqual(answer, [3, 0, 0, 1])
                     else:
                         self.assertEqual(answer, [0])
 
@@ -85,6 +99,25 @@ class TestRanges(unittest.TestCase):
             self.assertEqual(last(("define", 0, 1, 1, 1, 1, den)), [-1])
             self.assertEqual(last(("tally", 0, 1, 1, den)), [-1])
             self.assertEqual(last(("set", 0, 0, 1, den)), [-1])
+            self.assertEqual(last(("below", 0, 1, den)), [-1])
+            self.assertEqual(last(("above", 0, 1, den)), [-1])
+
+    def test_the_part_of_a_quantile_is_from_0_to_its_whole(self):
+        ahead = [("define", 0, 1, 0, 1, 1, 1), ("tally", 0, 1, 7, 1)]
+        for part, whole in ((0, 1), (1, 1), (0, BILLION), (1, BILLION), (BILLION, BILLION), (5, 5), (4, 5)):
+            with self.subTest(part=part, whole=whole):
+                self.assertEqual(last(*ahead, ("quantile", 0, part, whole)), [7, 1])
+        for part, whole in ((-1, 1), (2, 1), (6, 5), (0, 0), (1, 0), (-1, 0), (0, -1), (-2, -1), (-1, -1),
+                            (-1, BILLION), (BILLION + 1, BILLION), (BILLION, BILLION + 1), (BILLION + 1, BILLION + 1),
+                            (BIG, BIG), (0, BILLION + 1), (0, BIG), (BIG, BILLION), (-BIG, -BIG),
+                            (BILLION, BILLION - 1)):
+            with self.subTest(part=part, whole=whole):
+                self.assertEqual(last(*ahead, ("quantile", 0, part, whole)), [-1])
+
+    def test_only_a_quantile_has_a_part_and_a_whole(self):
+        ahead = [("define", 0, 1, 0, 1, 1, 1), ("tally", 0, 1, 7, 1)]
+        self.assertEqual(last(*ahead, ("below", 0, 8, 1)), [1, 0])
+        self.assertEqual(last(*ahead, ("tick", 3), ("above", 0, -8, 1)), [3])
 
     def test_a_width_must_be_above_0(self):
         for num in (0, -1, -BIG):

@@ -37,8 +37,11 @@ class TestBeforeTheClock(unittest.TestCase):
 
     def test_calls_without_a_time_leave_the_clock(self):
         found = run(("tick", 5), ("define", 0, 1, 0, 1, 1, 1), ("define", 1, 1, 0, 1, 1, 1), ("tally", 0, 7, 8, 1),
-                    ("merge", 1, 0), ("meter", 9), ("means", 9), ("tick", 4), ("tick", 5))
-        self.assertEqual(found[7:], [[-3], [0]])
+                    ("merge", 1, 0), ("meter", 9), ("means", 9), ("levels", 9), ("inside", 9), ("busy", 9),
+                    ("table", 1), ("classes", 1), ("quantile", 1, 7, 8), ("below", 1, 7, 8), ("value", 9),
+                    ("above", 9, 7, 8), ("clock",), ("live",), ("tick", 4), ("tick", 5))
+        self.assertEqual(found[16], [5, 0])
+        self.assertEqual(found[18:], [[-3], [0]])
 
     def test_at_the_end_of_time(self):
         self.assertEqual(run(("tick", BIG), ("tick", BIG - 1), ("tick", BIG), ("reset", BIG)), [[0], [-3], [0], [0]])
@@ -66,6 +69,12 @@ class TestOrder(unittest.TestCase):
         self.assertEqual(last(("merge", 64, 64)), [-1])
         self.assertEqual(last(("merge", -1, -1)), [-1])
         self.assertEqual(last(("merge", 0, 64)), [-1])
+        self.assertEqual(last(("quantile", 0, 2, 1)), [-1])
+        self.assertEqual(last(("quantile", 0, 0, 0)), [-1])
+        self.assertEqual(last(("define", 0, 1, 0, 1, 1, 1), ("quantile", 0, 2, 1)), [-1])
+        self.assertEqual(last(("below", 0, 1, 0)), [-1])
+        self.assertEqual(last(("table", 64)), [-1])
+        self.assertEqual(last(("classes", 64)), [-1])
 
     def test_the_time_ahead_of_the_others(self):
         self.assertEqual(last(("join", 5, 0, 1, 1), ("join", 4, 0, 1, 1)), [-3])
@@ -80,6 +89,11 @@ class TestOrder(unittest.TestCase):
     def test_tally_undefined_ahead_of_too_fine(self):
         self.assertEqual(last(("tally", 0, 1, 1, 1001)), [-8])
         self.assertEqual(last(("define", 0, 1, 0, 1, 1, 1), ("tally", 0, 1, 1, 1001)), [-7])
+
+    def test_quantile_undefined_ahead_of_no_tallies(self):
+        self.assertEqual(last(("quantile", 0, 1, 2)), [-8])
+        self.assertEqual(last(("define", 0, 1, 0, 1, 1, 1), ("quantile", 0, 1, 2)), [-10])
+        self.assertEqual(last(("define", 0, 1, 0, 1, 1, 1), ("quantile", 1, 1, 2)), [-8])
 
     def test_merge_with_itself_ahead_of_undefined(self):
         self.assertEqual(last(("merge", 5, 5)), [-4])

@@ -1,4 +1,4 @@
-"""define, tally, merge and set: their refusals, and what they note for later questions."""
+"""define, tally, merge and set: their refusals, and what they note in the book."""
 
 import unittest
 
